@@ -1,0 +1,1 @@
+"""Foldrule: a carpenter's rule folded flat into a case."""
