@@ -29,7 +29,7 @@ def nodes(path):
 class PackageTest(unittest.TestCase):
     def test_the_files_of_the_interface_are_there(self):
         names = [path.name for path in package_files()]
-        for name in ["__init__.py", "errors.py", "rules.py"]:
+        for name in ["__init__.py", "cases.py", "counting.py", "errors.py", "notes.py", "rules.py"]:
             self.assertIn(name, names)
 
     def test_only_the_package_itself_is_imported(self):

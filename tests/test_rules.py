@@ -1,8 +1,8 @@
-import itertools
 import unittest
 
 from foldrule.errors import BadFolding, BadRule
 from foldrule.rules import joints, span
+from tests.helpers import BAD_FOLDINGS, BAD_RULES, WRONG_BESIDE_ANY, all_foldings, good_folding, places_of
 
 # Rule, folding, joints, span: all worked out by hand.
 FOLDED = [
@@ -33,69 +33,6 @@ FOLDED = [
     ),
 ]
 
-BAD_RULES = [
-    [],
-    [1] * 13,
-    [60] * 13,
-    [5] * 40,
-    [0],
-    [61],
-    [-1],
-    [-60],
-    [0, 5, 5],
-    [5, 0, 5],
-    [5, 5, 0],
-    [61, 5, 5],
-    [5, 61, 5],
-    [5, 5, 61],
-    [-7, 5, 5],
-    [5, -7, 5],
-    [5, 5, -7],
-    [5] * 11 + [0],
-    [60] * 11 + [61],
-    [10 ** 5000],
-    [-(10 ** 5000)],
-]
-
-# Each beside a rule that is one.
-BAD_FOLDINGS = [
-    ([5], [0]),
-    ([5], [1]),
-    ([5], [2]),
-    ([5, 6], []),
-    ([5, 6], [0, 0]),
-    ([5, 6], [2]),
-    ([5, 6], [-1]),
-    ([5, 6, 7], []),
-    ([5, 6, 7], [1]),
-    ([5, 6, 7], [0, 1, 0]),
-    ([5, 6, 7], [2, 0]),
-    ([5, 6, 7], [0, 2]),
-    ([5, 6, 7], [-1, 1]),
-    ([5, 6, 7], [1, -1]),
-    ([5, 6, 7], [0, 10 ** 5000]),
-    ([60] * 12, [0] * 10),
-    ([60] * 12, [0] * 12),
-    ([60] * 12, [0] * 10 + [2]),
-    ([1] * 12, [1] * 10 + [-1]),
-]
-
-# For any rule that is none, foldings that would be refused by themselves too.
-WRONG_BESIDE_ANY = [[2], [-1], [2] * 11, [0] * 60, [0, 3, 1]]
-
-
-def good_folding(rule):
-    return [0] * max(len(rule) - 1, 0)
-
-
-def place_of(rule, folding, joint):
-    # Piece k goes upward where the turns ahead of it are even in number.
-    return sum(rule[k] * (-1) ** sum(folding[:k]) for k in range(joint))
-
-
-def all_foldings(rule):
-    return [list(turns) for turns in itertools.product([0, 1], repeat=len(rule) - 1)]
-
 
 class RulesTest(unittest.TestCase):
     def assert_refused(self, refusal, rule, folding):
@@ -125,7 +62,7 @@ class JointsAndSpanTest(RulesTest):
         for rule in [[9], [1, 60], [30, 12, 25], [8, 8, 8, 8], [60, 1, 59, 2, 58, 3], [13, 7, 41, 5, 60, 22, 1, 37]]:
             for folding in all_foldings(rule):
                 with self.subTest(rule=rule, folding=folding):
-                    expected = [place_of(rule, folding, joint) for joint in range(len(rule) + 1)]
+                    expected = places_of(rule, folding)
                     self.assertEqual(joints(rule, folding), expected)
                     self.assertEqual(span(rule, folding), max(expected) - min(expected))
 
